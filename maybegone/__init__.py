@@ -1,0 +1,1 @@
+"""Maybegone: programs that can notice when cells are cleared away."""

@@ -1,0 +1,215 @@
+"""Those rules of the language that are plain to check: files, sizes, imports, names, signs."""
+
+import ast
+import builtins
+import os
+import re
+import unittest
+
+PACKAGE = os.path.join(os.path.dirname(os.path.dirname(os.path.abspath(__file__))), "maybegone")
+BUILTINS = (
+    "len range enumerate zip min max sum abs sorted reversed int str bool bytes list tuple dict set frozenset isinstance ord "
+    "repr any all divmod pow getattr hasattr setattr iter next map super property staticmethod classmethod Exception "
+    "ValueError TypeError KeyError IndexError LookupError ZeroDivisionError ArithmeticError OverflowError RuntimeError "
+    "NotImplementedError AttributeError StopIteration NotImplemented"
+).split()
+LIBRARY = {
+    "heapq": "heappush heappop heapify heapreplace heappushpop".split(),
+    "math": "gcd lcm isqrt comb perm factorial".split(),
+    "itertools": "product combinations permutations chain accumulate pairwise islice zip_longest".split(),
+    "collections": ["defaultdict"],
+}
+# No part of a program may be called so (L12, L17).
+BARRED = (
+    "register mro elements open input law version_info with_traceback add_note attrgetter breakpoint compile copyright "
+    "delattr dir eval exec exit gc globals help id importlib license locals methodcaller os quit type vars sys "
+    "_cold _tuplegetter _outside _record _written_out _member_names"
+).split()
+BARRED_WORDS = (
+    "typing typing_extensions enum Enum IntEnum StrEnum Flag IntFlag Generic Protocol ABC ABCMeta namedtuple NamedTuple "
+    "TypedDict TYPE_CHECKING abstractmethod _wall _WallAttr"
+).split()
+METHODS = (
+    "append clear copy count endswith extend find get index insert isalnum isalpha isdigit islower isspace isupper items join "
+    "keys ljust lower lstrip partition pop remove replace reverse rfind rjust rpartition rsplit rstrip setdefault split "
+    "splitlines startswith strip update upper values zfill bit_length sort add discard title capitalize removeprefix "
+    "removesuffix isascii isdecimal isnumeric format"
+).split()
+STATEMENTS = (ast.FunctionDef, ast.ClassDef, ast.ImportFrom, ast.Assign)
+FORBIDDEN = (
+    ast.Global, ast.AsyncFunctionDef, ast.AsyncFor, ast.AsyncWith, ast.Await, ast.Div, ast.MatMult, ast.Import,
+)
+
+
+def sources():
+    for folder, folders, files in os.walk(PACKAGE):
+        folders[:] = sorted(name for name in folders if name != "__pycache__")
+        for name in sorted(files):
+            with open(os.path.join(folder, name), encoding="utf-8") as held:
+                yield os.path.relpath(os.path.join(folder, name), PACKAGE), held.read()
+
+
+def trees():
+    for name, text in sources():
+        yield name, ast.parse(text)
+
+
+def docstrings(tree):
+    """The nodes of the docstrings."""
+    found = []
+    for node in ast.walk(tree):
+        if isinstance(node, (ast.Module, ast.ClassDef, ast.FunctionDef)) and ast.get_docstring(node) is not None:
+            found.append(node.body[0].value)
+    return found
+
+
+def names_given(tree):
+    """Every name that the file gives to something."""
+    for node in ast.walk(tree):
+        if isinstance(node, (ast.FunctionDef, ast.ClassDef)):
+            yield node.name
+        elif isinstance(node, ast.Name) and isinstance(node.ctx, ast.Store):
+            yield node.id
+        elif isinstance(node, ast.arg):
+            yield node.arg
+        elif isinstance(node, ast.ExceptHandler) and node.name:
+            yield node.name
+
+
+class Language(unittest.TestCase):
+
+    def test_files(self):
+        for name, text in sources():
+            with self.subTest(name):
+                self.assertRegex(name, r"^[a-z0-9_]+\.py$")
+                self.assertNotIn("\t", text)
+                self.assertTrue(all(sign == "\n" or " " <= sign <= "~" for sign in text))
+                self.assertLessEqual(len(text.split("\n")), 399)
+                self.assertLessEqual(max(len(line) for line in text.split("\n")), 120)
+
+    def test_functions_are_small(self):
+        for name, tree in trees():
+            for node in ast.walk(tree):
+                if isinstance(node, ast.FunctionDef):
+                    self.assertLessEqual(node.end_lineno - node.lineno + 1, 40, (name, node.name))
+
+    def test_module_level(self):
+        for name, tree in trees():
+            for at, node in enumerate(tree.body):
+                docstring = at == 0 and isinstance(node, ast.Expr)
+                self.assertTrue(docstring or isinstance(node, STATEMENTS), (name, node.lineno))
+
+    def test_imports(self):
+        for name, tree in trees():
+            top = True
+            for node in tree.body[1:]:
+                self.assertTrue(top or not isinstance(node, ast.ImportFrom), name)
+                top = top and isinstance(node, ast.ImportFrom)
+            for node in ast.walk(tree):
+                if isinstance(node, ast.ImportFrom):
+                    self.assertEqual(node.level, 0)
+                    self.assertEqual([alias.asname for alias in node.names], [None] * len(node.names))
+                    allowed = LIBRARY.get(node.module)
+                    for alias in node.names:
+                        if allowed is None:
+                            self.assertTrue(node.module.startswith("maybegone."), (name, node.module))
+                            self.assertTrue(self.defines(node.module, alias.name), (name, alias.name))
+                        else:
+                            self.assertIn(alias.name, allowed)
+
+    def defines(self, module, word):
+        """Whether the file defines the name itself."""
+        for name, tree in trees():
+            if "maybegone." + name[:-3] == module:
+                for node in tree.body:
+                    if isinstance(node, (ast.FunctionDef, ast.ClassDef)) and node.name == word:
+                        return True
+                    if isinstance(node, ast.Assign) and node.targets[0].id == word:
+                        return True
+        return False
+
+    def test_nodes(self):
+        for name, tree in trees():
+            for node in ast.walk(tree):
+                where = (name, getattr(node, "lineno", None))
+                self.assertNotIsInstance(node, FORBIDDEN, where)
+                if isinstance(node, ast.Constant):
+                    self.assertNotIsInstance(node.value, (float, complex), where)
+                    if isinstance(node.value, str):
+                        self.assertNotIn("%", node.value, where)
+                if isinstance(node, ast.FunctionDef):
+                    for decorator in node.decorator_list:
+                        shown = ast.unparse(decorator)
+                        self.assertTrue(shown in ("property", "staticmethod", "classmethod") or shown.endswith(".setter"), where)
+                if isinstance(node, ast.ClassDef):
+                    self.assertEqual(node.decorator_list, [], where)
+                if isinstance(node, ast.Compare):
+                    for sign, side in zip(node.ops, node.comparators):
+                        if isinstance(sign, (ast.Is, ast.IsNot)):
+                            self.assertIsInstance(side, (ast.Constant, ast.Name, ast.Attribute), where)
+                if isinstance(node, ast.ExceptHandler):
+                    self.assertIsNotNone(node.type, where)
+
+    def test_names(self):
+        for name, tree in trees():
+            for word in names_given(tree):
+                self.assertRegex(word, r"^(_|_?[A-Za-z][A-Za-z0-9_]*|__[a-z]+__)$")
+                self.assertNotIn(word, BARRED, name)
+                if not word.startswith("__"):
+                    self.assertFalse(hasattr(builtins, word), (name, word))
+
+    def test_builtins(self):
+        for name, tree in trees():
+            for node in ast.walk(tree):
+                if isinstance(node, ast.Name) and hasattr(builtins, node.id):
+                    self.assertIn(node.id, BUILTINS, (name, node.lineno))
+
+    def test_methods_of_builtin_values(self):
+        own = {node.name for _, tree in trees() for node in ast.walk(tree) if isinstance(node, ast.FunctionDef)}
+        for name, tree in trees():
+            for node in ast.walk(tree):
+                if isinstance(node, ast.Call) and isinstance(node.func, ast.Attribute):
+                    self.assertTrue(node.func.attr in own or node.func.attr in METHODS, (name, node.lineno))
+
+    def test_words(self):
+        for name, text in sources():
+            for word in ("dataclass", "overload", "contextmanager"):
+                self.assertNotIn(word, text, name)
+            words = re.findall(r"\w+", text)
+            for word in BARRED_WORDS:
+                self.assertNotIn(word, words, name)
+
+    def test_module_level_names_are_bound_once(self):
+        for name, tree in trees():
+            bound = []
+            for node in tree.body:
+                if isinstance(node, (ast.FunctionDef, ast.ClassDef)):
+                    bound.append(node.name)
+                elif isinstance(node, ast.Assign):
+                    bound.append(node.targets[0].id)
+                elif isinstance(node, ast.ImportFrom):
+                    bound.extend(alias.name for alias in node.names)
+            self.assertEqual(len(bound), len(set(bound)), name)
+            # And no variable has the name of an import or a class.
+            taken = [a.name for n in tree.body if isinstance(n, ast.ImportFrom) for a in n.names]
+            taken += [n.name for n in tree.body if isinstance(n, ast.ClassDef)]
+            inner = [node.id for node in ast.walk(tree) if isinstance(node, ast.Name) and isinstance(node.ctx, ast.Store)]
+            inner += [node.arg for node in ast.walk(tree) if isinstance(node, ast.arg)]
+            self.assertEqual([word for word in inner if word in taken], [], name)
+
+    def test_everything_is_documented(self):
+        for name, tree in trees():
+            self.assertIsNotNone(ast.get_docstring(tree), name)
+            self.assertTrue(docstrings(tree))
+
+    def test_sets_are_not_iterated(self):
+        for name, tree in trees():
+            for node in ast.walk(tree):
+                if isinstance(node, (ast.For, ast.comprehension)):
+                    shown = node.iter
+                    called = isinstance(shown, ast.Call) and isinstance(shown.func, ast.Name) and shown.func.id in ("set", "frozenset")
+                    self.assertFalse(called or isinstance(shown, (ast.Set, ast.SetComp)), name)
+
+
+if __name__ == "__main__":
+    unittest.main()
