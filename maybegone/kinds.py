@@ -76,7 +76,7 @@ PLAIN_TESTS = {
 }
 
 
-def _first_word(value):
+def first_word(value):
     """The text with which the tuple begins, or None."""
     if isinstance(value, tuple) and value and isinstance(value[0], str):
         return value[0]
@@ -93,9 +93,9 @@ def is_test(value, givens):
     """Tells whether the value is a test, with this number of givens."""
     inner = value
     for _ in range(MOST_NOTS):
-        if _first_word(inner) == "not" and len(inner) == 2:
+        if first_word(inner) == "not" and len(inner) == 2:
             inner = inner[1]
-    checks = PLAIN_TESTS.get(_first_word(inner))
+    checks = PLAIN_TESTS.get(first_word(inner))
     return checks is not None and _parts_fit(inner[1:], checks, givens)
 
 
@@ -118,5 +118,5 @@ STATEMENTS = {
 
 def is_statement(value, givens):
     """Tells whether the value is a statement, whatever is in its blocks."""
-    checks = STATEMENTS.get(_first_word(value))
+    checks = STATEMENTS.get(first_word(value))
     return checks is not None and _parts_fit(value[1:], checks, givens)

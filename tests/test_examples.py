@@ -2,8 +2,12 @@
 
 import unittest
 
+from maybegone.leads import led_run
 from maybegone.programs import each_statement, make_places, program_error, weak_places, weight, wishes_of
 from maybegone.runs import run, there_at
+from maybegone.stories import Facts, cells_at, comers, reached_at, steps_hold
+from maybegone.verdicts import alike, noticed
+from maybegone.ways import each_inputs, early_plan, way_of, ways
 
 
 class Examples(unittest.TestCase):
@@ -36,6 +40,67 @@ class Examples(unittest.TestCase):
         self.assertEqual(
             [there_at(program, ()), there_at(program, (), ((2, 0),))],
             [(1, 2, 3), (1, 2, 2)])
+
+    def test_cells_and_comers(self):
+        story = ((("make", 0), ("stand", "x", 0)), (("make", 1), ("stand", "y", 1)), (("hold", 1, "f", 0),), (("stand", "x", None),), (("stand", "y", None),), (("ask", 0),), (("ask", 1),))
+        self.assertEqual(
+            [cells_at(story, 1), reached_at(story, 4), reached_at(story, 5), comers(story, 5, 0), comers(story, 5, 1)],
+            [1, (0, 1), (), (0, 1), (1,)])
+
+    def test_steps_hold(self):
+        story = ((("make", 0), ("stand", "x", 0)), (("make", 1), ("stand", "y", 1)), (("hold", 1, "f", 0),), (("stand", "x", None),), (("stand", "y", None),), (("ask", 0),), (("ask", 1),))
+        steps = ((0, 5, "gone", ("asked", 0)), (1, 5, "gone", ("holder", 0)), (1, 6, "gone", ("later", 1)), (1, 6, "there", ("asked", 1)))
+        self.assertEqual(
+            [steps_hold(story, (1, 0), steps), steps_hold(story, (1, 0), steps[:3]), steps_hold(story, (1, 1), steps), steps_hold(story, (), ((0, 4, "there", ("reached",)),))],
+            ['clash', 'hold', None, 'hold'])
+
+    def test_facts(self):
+        facts = Facts(((("make", 0), ("stand", "x", 0)), (("make", 1), ("stand", "y", 1)), (("hold", 1, "f", 0),), (("stand", "x", None),), (("stand", "y", None),), (("ask", 0),), (("ask", 1),)))
+        self.assertEqual(
+            [facts.fate(0, 4), facts.fate(0, 5), facts.window(0), facts.tell(1), facts.fate(1, 5), facts.window(0), facts.window(1), len(facts)],
+            ['there', 'open', (5, None), 1, 'gone', (5, 5), (5, 5), 1])
+
+    def test_facts_again(self):
+        story = ((("make", 0), ("stand", "x", 0)), (("make", 1), ("stand", "y", 1)), (("hold", 1, "f", 0),), (("stand", "x", None),), (("stand", "y", None),), (("ask", 1),), (("ask", 0),))
+        self.assertEqual(
+            [Facts(story).window(0), Facts(story, (0,)).window(0), Facts(story, (0, 1)).window(0), Facts(story, (1, 0)).window(1), Facts(story, (1, 0)).fate(0, 5)],
+            [(5, None), (6, None), (6, 6), (5, 5), 'there'])
+
+    def test_led_run(self):
+        program = (0, (("make", "x"), ("weak", "x", "f", "x"), ("take", "y", "x", "f"), ("ask", ("set", "y"))))
+        self.assertEqual(
+            [led_run(program, (), (1,)), led_run(program, (), ())[1:3]],
+            [((('no',),), None, ((2, 2, 0),), ((('make', 0), ('stand', 'x', 0)), (), (('ask', 0), ('stand', 'y', None)), ())), (('question', 2), ((2, 2, 0),))])
+
+    def test_ways(self):
+        program = (0, (("make", "x"), ("make", "y"), ("weak", "x", "f", "y"), ("hold", "y", "g", "x"), ("drop", "y"), ("ask", ("full", "x", "f")), ("ask", ("full", "x", "f"))))
+        self.assertEqual(
+            [list(ways(program, ())), [row[0] for row in ways(program, (), paused=(6,))]],
+            [[((0, 0), (('yes',), ('yes',)), None, ()), ((0, 1), (('yes',), ('no',)), None, ((6, 1),)), ((1, 1), (('no',), ('no',)), None, ((5, 1),))], [(0, 0), (1, 1)]])
+
+    def test_early_and_late(self):
+        program = (0, (("make", "x"), ("make", "y"), ("drop", "y"), ("make", "y"), ("weak", "x", "f", "y"), ("drop", "y"), ("ask", ("full", "x", "f"))))
+        self.assertEqual(
+            [early_plan(program, (), ()), early_plan(program, (), ((6, 2),)), way_of(program, (), ((3, 1), (6, 2)))[3]],
+            [((3, 1),), ((3, 1), (6, 2)), ((6, 2),)])
+
+    def test_each_inputs(self):
+        self.assertEqual(
+            [list(each_inputs((0, ()))), list(each_inputs((2, ())))],
+            [[()], [(0, 0), (0, 1), (1, 0), (1, 1)]])
+
+    def test_noticed(self):
+        program = (1, (("make", "x"), ("make", "y"), ("weak", "x", "f", "y"), ("drop", "y"), ("if", ("given", 0), (("ask", ("full", "x", "f")),), (("take", "y", "x", "f"),))))
+        self.assertEqual(
+            [noticed(program), noticed(program, paused=(5,)), noticed(program, paused=(4, 5))],
+            [((1,), ((5, 1),)), ((1,), ((4, 1),)), None])
+
+    def test_alike(self):
+        one = (0, (("make", "x"), ("make", "y"), ("weak", "x", "f", "y"), ("drop", "y"), ("take", "y", "x", "f"), ("ask", ("set", "y"))))
+        other = (0, (("make", "x"), ("make", "y"), ("hold", "x", "f", "y"), ("drop", "y"), ("take", "y", "x", "f"), ("ask", ("set", "y"))))
+        self.assertEqual(
+            [alike(one, one), alike(one, other)],
+            [None, (0, (), ((4, 1),))])
 
 
 if __name__ == "__main__":

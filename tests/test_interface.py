@@ -3,7 +3,7 @@
 import inspect
 import unittest
 
-from maybegone import programs, runs
+from maybegone import leads, programs, runs, stories, verdicts, ways
 
 FUNCTIONS = (
     (programs, "program_error", "(value)"),
@@ -15,6 +15,26 @@ FUNCTIONS = (
     (programs, "weak_places", "(program)"),
     (runs, "run", "(program, inputs, plan=(), *, paused=())"),
     (runs, "there_at", "(program, inputs, plan=(), *, paused=())"),
+    (stories, "cells_at", "(story, moment)"),
+    (stories, "reached_at", "(story, moment)"),
+    (stories, "comers", "(story, moment, cell)"),
+    (stories, "steps_hold", "(story, answers, value)"),
+    (leads, "led_run", "(program, inputs, answers)"),
+    (ways, "ways", "(program, inputs, *, paused=())"),
+    (ways, "way_of", "(program, inputs, plan, *, paused=())"),
+    (ways, "early_plan", "(program, inputs, plan)"),
+    (ways, "each_inputs", "(program)"),
+    (verdicts, "noticed", "(program, *, paused=())"),
+    (verdicts, "alike", "(one, other)"),
+)
+METHODS = (
+    (stories.Facts, "__init__", "(self, story, answers=())"),
+    (stories.Facts, "__len__", "(self)"),
+    (stories.Facts, "tell", "(self, answer)"),
+    (stories.Facts, "twin", "(self)"),
+    (stories.Facts, "fate", "(self, cell, moment)"),
+    (stories.Facts, "reasons", "(self, cell, moment)"),
+    (stories.Facts, "window", "(self, cell)"),
 )
 
 
@@ -28,9 +48,24 @@ class Interface(unittest.TestCase):
                 self.assertEqual(function.__module__, module.__name__)
                 self.assertEqual(str(inspect.signature(function)), arguments)
 
+    def test_each_method_stands_in_its_class(self):
+        for owner, name, arguments in METHODS:
+            with self.subTest(name):
+                self.assertEqual(owner.__module__, stories.__name__)
+                self.assertEqual(str(inspect.signature(vars(owner)[name])), arguments)
+
+    def test_attributes_are_set_from_the_beginning(self):
+        self.assertEqual(sorted(name for name in vars(stories.Facts(())) if not name.startswith("_")), ["story", "told"])
+
+    def test_generators(self):
+        for made in (ways.ways((0, ()), ()), ways.each_inputs((0, ()))):
+            self.assertIs(iter(made), made)
+
     def test_paused_is_passed_by_keyword(self):
-        for function in (runs.run, runs.there_at):
+        for function in (runs.run, runs.there_at, ways.way_of):
             self.assertRaises(TypeError, function, (0, ()), (), (), ())
+        self.assertRaises(TypeError, ways.ways, (0, ()), (), ())
+        self.assertRaises(TypeError, verdicts.noticed, (0, ()), ())
 
 
 if __name__ == "__main__":

@@ -35,6 +35,13 @@ METHODS = (
     "splitlines startswith strip update upper values zfill bit_length sort add discard title capitalize removeprefix "
     "removesuffix isascii isdecimal isnumeric format"
 ).split()
+# No attribute may be called so (L26).
+NO_ATTRIBUTES = (
+    "items keys values pop update append clear extend insert remove reverse setdefault sort args encode decode hex fromhex format"
+).split()
+# What may iterate over a generator, or over what zip and its like give, at once (L23).
+ITERATING = "list tuple dict sorted sum min max any all enumerate zip".split()
+VIEWS = ("range", "zip", "enumerate", "reversed", "items", "keys", "values")
 STATEMENTS = (ast.FunctionDef, ast.ClassDef, ast.ImportFrom, ast.Assign)
 FORBIDDEN = (
     ast.Global, ast.AsyncFunctionDef, ast.AsyncFor, ast.AsyncWith, ast.Await, ast.Div, ast.MatMult, ast.Import,
@@ -74,6 +81,29 @@ def names_given(tree):
             yield node.arg
         elif isinstance(node, ast.ExceptHandler) and node.name:
             yield node.name
+
+
+def called(node):
+    """The name that is called, if the node is a call."""
+    if isinstance(node, ast.Call):
+        return getattr(node.func, "id", getattr(node.func, "attr", None))
+    return None
+
+
+def iterated(tree):
+    """The nodes that are iterated at once."""
+    for node in ast.walk(tree):
+        if isinstance(node, (ast.For, ast.comprehension)):
+            yield node.iter
+        elif called(node) in ITERATING + ["reversed", "len"] and node.args:
+            yield from node.args
+        elif isinstance(node, ast.Compare):
+            yield from node.comparators
+
+
+def methods(tree):
+    """The methods of the classes of the file."""
+    return [node for owner in tree.body if isinstance(owner, ast.ClassDef) for node in owner.body if isinstance(node, ast.FunctionDef)]
 
 
 class Language(unittest.TestCase):
@@ -201,6 +231,68 @@ class Language(unittest.TestCase):
         for name, tree in trees():
             self.assertIsNotNone(ast.get_docstring(tree), name)
             self.assertTrue(docstrings(tree))
+
+    def test_attributes(self):
+        stored = {node.attr for _, tree in trees() for node in ast.walk(tree) if isinstance(node, ast.Attribute) and isinstance(node.ctx, ast.Store)}
+        own = {node.name for _, tree in trees() for node in methods(tree)}
+        self.assertEqual(stored & set(NO_ATTRIBUTES), set())
+        # No name is a method here and an attribute there, though some such cases may stand.
+        self.assertEqual(stored & own, set())
+        for name, tree in trees():
+            for node in ast.walk(tree):
+                if isinstance(node, ast.Attribute) and isinstance(node.ctx, ast.Load):
+                    self.assertTrue(node.attr in stored | own | set(METHODS) or node.attr == "__init__", (name, node.lineno))
+
+    def test_generators_and_views_are_iterated_at_once(self):
+        made = {node.name for _, tree in trees() for node in ast.walk(tree) if isinstance(node, ast.FunctionDef)
+                if any(isinstance(inner, (ast.Yield, ast.YieldFrom)) for inner in ast.walk(node))}
+        self.assertEqual(made, {"each_statement", "ways", "each_inputs"})
+        for name, tree in trees():
+            at_once = list(iterated(tree))
+            for node in ast.walk(tree):
+                if called(node) in made or called(node) in VIEWS:
+                    self.assertIn(node, at_once, (name, node.lineno))
+                self.assertFalse(isinstance(node, ast.Name) and isinstance(node.ctx, ast.Store) and node.id in made, name)
+
+    def test_no_generator_expressions(self):
+        for name, tree in trees():
+            self.assertFalse([node.lineno for node in ast.walk(tree) if isinstance(node, ast.GeneratorExp)], name)
+
+    def test_what_a_class_with_len_asks_for(self):
+        for name, tree in trees():
+            for node in ast.walk(tree):
+                self.assertNotEqual(called(node), "sort", name)
+            for node in methods(tree):
+                if node.name == "__len__":
+                    returned = [inner.value for inner in ast.walk(node) if isinstance(inner, ast.Return)]
+                    self.assertEqual([called(value) for value in returned], ["len"])
+
+    def test_functions_from_tables_have_a_name_when_they_are_called(self):
+        for name, tree in trees():
+            for node in ast.walk(tree):
+                if isinstance(node, ast.Call):
+                    self.assertIsInstance(node.func, (ast.Name, ast.Attribute), (name, node.lineno))
+
+    def test_super_calls_a_method(self):
+        for name, tree in trees():
+            calls = [node.func.value for node in ast.walk(tree) if isinstance(node, ast.Call) and isinstance(node.func, ast.Attribute)]
+            for node in ast.walk(tree):
+                if called(node) == "super":
+                    self.assertIn(node, calls, (name, node.lineno))
+
+    def test_no_file_imports_from_itself_by_way_of_others(self):
+        further = {}
+        for name, tree in trees():
+            modules = [node.module for node in tree.body if isinstance(node, ast.ImportFrom)]
+            further["maybegone." + name[:-3]] = [module for module in modules if module not in LIBRARY]
+        for start in further:
+            left, found = list(further[start]), []
+            while left:
+                module = left.pop()
+                if module not in found:
+                    found.append(module)
+                    left.extend(further[module])
+            self.assertNotIn(start, found)
 
     def test_sets_are_not_iterated(self):
         for name, tree in trees():
