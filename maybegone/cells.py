@@ -82,22 +82,21 @@ class Cells:
                     found.setdefault(held, []).append(cell)
         return found
 
-    def comers(self, cell):
-        """The cells that are there and come to this cell, which is there, in ascending order."""
+    def comers(self, cells):
+        """The cells that are there and come to one of these, which are there, in ascending order."""
         holders = self.holders()
-        found = {cell: True}
-        left = [cell]
+        found = {}
+        left = list(cells)
         while left:
             held = left.pop()
-            for holder in holders.get(held, []):
-                if holder not in found:
-                    found[holder] = True
-                    left.append(holder)
+            if held not in found:
+                found[held] = True
+                left.extend(holders.get(held, []))
         return sorted(found)
 
-    def clear_away(self, cell, moment):
-        """Clears the cell, which is there, and all that come to it."""
-        for comer in self.comers(cell):
+    def clear_away(self, cells, moment):
+        """Clears these cells, which are there, and all that come to them."""
+        for comer in self.comers(cells):
             self.cleared[comer] = moment
 
     def cleared_pairs(self):

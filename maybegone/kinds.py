@@ -1,6 +1,6 @@
-"""What names, words, tests and statements look like."""
+"""What names, words, tests, statements, inputs and plans look like."""
 
-from maybegone.bounds import MAX_GIVENS, MAX_NAME, MAX_TIMES, MAX_WORD
+from maybegone.bounds import MAX_GIVENS, MAX_NAME, MAX_PLAN, MAX_TIMES, MAX_WORD
 
 LETTERS = "abcdefghijklmnopqrstuvwxyz"
 DIGITS = "0123456789"
@@ -9,6 +9,8 @@ RESERVED = (
     "not", "pass", "repeat", "same", "say", "set", "take", "weak", "wish", "wished",
 )
 MOST_NOTS = 3
+# The greatest moment, and the greatest cell, that a plan may name.
+MOST_PLANNED = 1000000
 
 
 def is_integer(value):
@@ -120,3 +122,41 @@ def is_statement(value, givens):
     """Tells whether the value is a statement, whatever is in its blocks."""
     checks = STATEMENTS.get(first_word(value))
     return checks is not None and _parts_fit(value[1:], checks, givens)
+
+
+def is_pair(value):
+    """Tells whether the value is a tuple of two items."""
+    return isinstance(value, tuple) and len(value) == 2
+
+
+def is_ascending(items):
+    """Tells whether the items, which can be compared, stand in ascending order, none of them twice."""
+    return all([one < other for one, other in zip(items, items[1:])])
+
+
+def is_bits(value):
+    """Tells whether the value is a tuple of integers 0 and 1."""
+    return isinstance(value, tuple) and all([is_from_to(item, 0, 1) for item in value])
+
+
+def is_inputs(value, givens):
+    """Tells whether the value is inputs of a program with this number of givens."""
+    return is_bits(value) and len(value) == givens
+
+
+def is_places(value, many):
+    """Tells whether the value is an ascending tuple of places of a program with so many statements."""
+    if not isinstance(value, tuple) or not all([is_from_to(item, 0, many - 1) for item in value]):
+        return False
+    return is_ascending(value)
+
+
+def _is_planned(value):
+    return is_pair(value) and all([is_from_to(item, 0, MOST_PLANNED) for item in value])
+
+
+def is_plan(value):
+    """Tells whether the value is a plan."""
+    if not isinstance(value, tuple) or len(value) > MAX_PLAN:
+        return False
+    return all([_is_planned(item) for item in value]) and is_ascending(value)

@@ -66,10 +66,12 @@ class LedMachine(Machine):
         self.cells = ToldCells()
         self.led = led
         self.asked = []
+        self.places = []
 
     def step(self, place, statement):
         """Executes one statement; returns what act returns, () if it stops."""
         self.cells.begin()
+        self.places.append(place)
         return super().step(place, statement)
 
     def answer_about(self, cell):

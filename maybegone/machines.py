@@ -128,11 +128,11 @@ class Machine:
     def clear_named(self, named):
         """Clears those of the named cells that may be cleared now, and all that come to them."""
         # Clearing changes nothing about what is reached, so it is enough to
-        # find the reached cells once.
+        # find the reached cells once, and to clear all that is named at once.
         reached = self.cells.reached()
-        for cell in named:
-            if self.cells.is_there(cell) and cell not in reached:
-                self.cells.clear_away(cell, self.moment)
+        loose = [cell for cell in named if self.cells.is_there(cell) and cell not in reached]
+        if loose:
+            self.cells.clear_away(loose, self.moment)
 
     def needed(self, name):
         """The cell for which the name stands, which must stand for one."""

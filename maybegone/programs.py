@@ -34,10 +34,35 @@ def placed_block(block, first):
         placed = []
         for inner in blocks_of(statement):
             placed.append(placed_block(inner, behind))
-            behind = behind + len(rows_of(inner, 0))
+            behind = behind + size_of(inner)
         rows.append((place, statement, placed))
         place = behind
     return rows
+
+
+def size_of(block):
+    """The number of statements in the block, inner ones counted."""
+    return len(rows_of(block, 0))
+
+
+def _rebuilt_rows(rows, standing):
+    found = []
+    for place, statement, blocks in rows:
+        if place in standing:
+            found.extend(standing[place])
+        elif blocks:
+            found.append(statement[:2] + tuple([_rebuilt_rows(part, standing) for part in blocks]))
+        else:
+            found.append(statement)
+    return tuple(found)
+
+
+def rebuilt(program, standing):
+    """The program in which other statements stand for those at some places.
+
+    standing is a dict from each of these places to the tuple of the statements that stand there.
+    """
+    return (program[0], _rebuilt_rows(placed_block(program[1], 0), standing))
 
 
 def each_statement(program):
@@ -110,7 +135,7 @@ def _first_wrong(givens, block):
 
 def _first_bound(program):
     """The error of the first bound that the program does not keep, or None."""
-    if len(rows_of(program[1], 0)) > MAX_PLACES:
+    if size_of(program[1]) > MAX_PLACES:
         return (None, "places")
     if weight(program) > MAX_WEIGHT:
         return (None, "weight")

@@ -53,9 +53,26 @@ class SearchMachine(LedMachine):
             self.turnings.append(tuple(self.record) + (1,))
         return 1 if fate == "gone" else 0
 
+    def outcome(self):
+        """The outcome of the runs of the way."""
+        return (tuple(self.answers), self.end)
+
+    def late_plan(self):
+        """The plan of the late run of the way."""
+        return self.windows.late_plan()
+
     def way(self):
         """The tuple (record, answers, end, plan) of the way, with the plan of the late run."""
-        return (tuple(self.record), tuple(self.answers), self.end, self.windows.late_plan())
+        return (tuple(self.record), tuple(self.answers), self.end, self.late_plan())
+
+    def clearings(self):
+        """A list of (cell, first, last) for each cell of the late run.
+
+        Some run of the way clears the cell at the time first, some at last, some at each time
+        between them, and none at other times.
+        """
+        self.windows.settle(self.time)
+        return [(cell, self.windows.last_there(cell) + 1, last) for last, cell in self.late_plan()]
 
 
 def search(program, inputs, led, paused):
@@ -65,17 +82,25 @@ def search(program, inputs, led, paused):
     return machine
 
 
-def all_ways(program, inputs, paused):
-    """A list of all ways, in ascending order of their records. Raises TooMany() if it is too long."""
-    found = []
+def each_search(program, inputs, paused):
+    """Yields the machine of each way, in ascending order of the records.
+
+    Raises TooMany() as soon as it is known that there are too many records.
+    """
+    many = 0
     left = [()]
     while left:
         machine = search(program, inputs, left.pop(), paused)
         # The turnings come in the order in which they were met, and the one
         # that was met last is the first one behind this record.
         left.extend(machine.turnings)
-        found.append(machine.way())
+        many = many + 1
         # Each turning is the beginning of at least one record.
-        if len(found) + len(left) > MAX_WAYS:
+        if many + len(left) > MAX_WAYS:
             raise TooMany()
-    return found
+        yield machine
+
+
+def all_ways(program, inputs, paused):
+    """A list of all ways, in ascending order of their records. Raises TooMany() if it is too long."""
+    return [machine.way() for machine in each_search(program, inputs, paused)]

@@ -1,19 +1,39 @@
 """Verdicts: whether the runs of programs can differ."""
 
 from maybegone.runs import run
-from maybegone.searches import all_ways
+from maybegone.searches import all_ways, each_search
 from maybegone.ways import each_inputs
+
+
+def is_noticed(program, inputs, plan):
+    """Tells whether the run with this plan is noticed."""
+    return run(program, inputs, plan)[:2] != run(program, inputs)[:2]
+
+
+def each_noticed(program, paused):
+    """Yields (inputs, machine) for each way whose runs are noticed; raises TooMany() as noticed."""
+    for inputs in each_inputs(program):
+        plain = run(program, inputs)[:2]
+        for machine in each_search(program, inputs, paused):
+            if machine.outcome() != plain:
+                yield (inputs, machine)
 
 
 def noticed(program, *, paused=()):
     """None for a sure program, otherwise (inputs, plan) of a noticed run that clears as few cells as any."""
     found = None
-    for inputs in each_inputs(program):
-        plain = run(program, inputs)[:2]
-        for _, answers, end, plan in all_ways(program, inputs, paused):
-            if (answers, end) != plain and (found is None or len(plan) < len(found[1])):
-                found = (inputs, plan)
+    for inputs, machine in each_noticed(program, paused):
+        plan = machine.late_plan()
+        if found is None or len(plan) < len(found[1]):
+            found = (inputs, plan)
     return found
+
+
+def is_sure(program):
+    """Tells whether the program is sure, as soon as this is known: it need not raise TooMany()."""
+    for _ in each_noticed(program, ()):
+        return False
+    return True
 
 
 def _outcomes(program, inputs):

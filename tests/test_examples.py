@@ -2,8 +2,12 @@
 
 import unittest
 
+from maybegone.fixes import Fix, Keeps, Strongs, keeps, pauses
 from maybegone.leads import led_run
+from maybegone.papers import paper_holds, paper_of, table_holds, table_of
+from maybegone.passes import crowded, fewest_passes, quiet_moments, run_passes
 from maybegone.programs import each_statement, make_places, program_error, weak_places, weight, wishes_of
+from maybegone.rooms import room
 from maybegone.runs import run, there_at
 from maybegone.stories import Facts, cells_at, comers, reached_at, steps_hold
 from maybegone.verdicts import alike, noticed
@@ -101,6 +105,63 @@ class Examples(unittest.TestCase):
         self.assertEqual(
             [alike(one, one), alike(one, other)],
             [None, (0, (), ((4, 1),))])
+
+    def test_table_of(self):
+        program = (0, (("make", "r"), ("make", "x"), ("weak", "r", "f", "x"), ("drop", "x"), ("ask", ("full", "r", "f")), ("ask", ("full", "r", "f"))))
+        rows, bans = table_of(program, ())
+        self.assertEqual(
+            [[row[0] for row in rows], [ban[0] for ban in bans]],
+            [[(0, 0), (0, 1), (1, 1)], [(1, 0)]])
+
+    def test_table_holds(self):
+        program = (0, (("make", "r"), ("make", "x"), ("weak", "r", "f", "x"), ("drop", "x"), ("ask", ("full", "r", "f")), ("ask", ("full", "r", "f"))))
+        rows = (((0, 0), ()), ((0, 1), ((5, 1),)), ((1, 1), ((4, 1),)))
+        bans = (((1, 0), ((1, 4, "gone", ("asked", 0)), (1, 5, "gone", ("later", 0)), (1, 5, "there", ("asked", 1)))),)
+        self.assertEqual(
+            [table_holds(program, (), (rows, bans)), table_holds(program, (), (rows, ())), table_holds(program, (), (rows[1:], bans))],
+            [True, False, False])
+
+    def test_papers(self):
+        program = (0, (("make", "x"), ("ask", ("set", "x"))))
+        other = (0, (("make", "r"), ("make", "x"), ("weak", "r", "f", "x"), ("drop", "x"), ("ask", ("full", "r", "f"))))
+        self.assertEqual(
+            [paper_of(program)[0], paper_of(other)[0], paper_holds(program, ("sure", (((), ((((), ()),), ())),))), paper_holds(other, ("noticed", (), ((3, 1),))), paper_holds(other, ("noticed", (), ((4, 1),)))],
+            ['sure', 'noticed', True, False, True])
+
+    def test_fix_changed(self):
+        self.assertEqual(
+            [Keeps().changed(("make", "x")), Strongs().changed(("weak", "x", "f", "y")), Strongs().changed(("make", "x")), Fix().places_of((0, (("make", "x"),)))],
+            [(('make', 'x'), ('keep', 'x')), (('hold', 'x', 'f', 'y'),), (('make', 'x'),), ()])
+
+    def test_fix_fewest(self):
+        program = (0, (("make", "x"), ("repeat", 2, (("make", "y"), ("weak", "y", "f", "x"), ("weak", "x", "f", "y"))), ("drop", "y"), ("ask", ("full", "x", "f"))))
+        self.assertEqual(
+            [Keeps().fewest(program), Strongs().fewest(program), Fix().fewest(program), Keeps().applied(program, (2,))[1][1]],
+            [(2,), (4,), None, ('repeat', 2, (('make', 'y'), ('keep', 'y'), ('weak', 'y', 'f', 'x'), ('weak', 'x', 'f', 'y')))])
+
+    def test_keeps_and_pauses(self):
+        program = (0, (("make", "x"), ("make", "y"), ("weak", "x", "f", "y"), ("drop", "y"), ("say", "a"), ("ask", ("full", "x", "f"))))
+        self.assertEqual(
+            [keeps(program), pauses(program), pauses((0, program[1][:4] + (("say", "b"),) * 3 + program[1][4:]))],
+            [('keeps', (1,)), ('pauses', (4, 5)), ('many',)])
+
+    def test_room(self):
+        program = (0, (("make", "x"), ("make", "y"), ("weak", "x", "f", "y"), ("drop", "y"), ("make", "z"), ("drop", "z"), ("make", "z"), ("ask", ("full", "x", "f"))))
+        self.assertEqual(
+            [room(program, ())[0], room((0, program[1][:-1]), ())[0]],
+            [3, 2])
+
+    def test_quiet_moments(self):
+        program = (0, (("make", "x"), ("make", "y"), ("weak", "x", "f", "y"), ("drop", "y"), ("ask", ("full", "x", "f")), ("drop", "x")))
+        self.assertEqual(
+            [quiet_moments(program, ()), run_passes(program, (), (2, 5)), run_passes(program, (), (4,))],
+            [(0, 1, 2, 3, 5), ((('yes',),), None, (0,), ((5, 1),)), ((('no',),), None, (1,), ((4, 1),))])
+
+    def test_fewest_passes(self):
+        program = (0, (("repeat", 3, (("make", "x"),)),))
+        self.assertEqual(
+            [crowded(program, (), (), 2), crowded(program, (), (3,), 2), fewest_passes(program, (), 2), fewest_passes(program, (), 1), fewest_passes(program, (), 3)],
+            [3, None, ('passes', (3,)), ('crowded', 2), ('passes', ())])
 
 
 if __name__ == "__main__":

@@ -3,7 +3,7 @@
 import inspect
 import unittest
 
-from maybegone import leads, programs, runs, stories, verdicts, ways
+from maybegone import fixes, leads, papers, passes, programs, rooms, runs, stories, verdicts, ways
 
 FUNCTIONS = (
     (programs, "program_error", "(value)"),
@@ -26,15 +26,34 @@ FUNCTIONS = (
     (ways, "each_inputs", "(program)"),
     (verdicts, "noticed", "(program, *, paused=())"),
     (verdicts, "alike", "(one, other)"),
+    (papers, "table_of", "(program, inputs)"),
+    (papers, "table_holds", "(program, inputs, value)"),
+    (papers, "paper_of", "(program)"),
+    (papers, "paper_holds", "(program, value)"),
+    (fixes, "keeps", "(program)"),
+    (fixes, "pauses", "(program)"),
+    (rooms, "room", "(program, inputs)"),
+    (passes, "run_passes", "(program, inputs, moments)"),
+    (passes, "quiet_moments", "(program, inputs)"),
+    (passes, "crowded", "(program, inputs, moments, limit)"),
+    (passes, "fewest_passes", "(program, inputs, limit)"),
 )
 METHODS = (
-    (stories.Facts, "__init__", "(self, story, answers=())"),
-    (stories.Facts, "__len__", "(self)"),
-    (stories.Facts, "tell", "(self, answer)"),
-    (stories.Facts, "twin", "(self)"),
-    (stories.Facts, "fate", "(self, cell, moment)"),
-    (stories.Facts, "reasons", "(self, cell, moment)"),
-    (stories.Facts, "window", "(self, cell)"),
+    (stories, stories.Facts, "__init__", "(self, story, answers=())"),
+    (stories, stories.Facts, "__len__", "(self)"),
+    (stories, stories.Facts, "tell", "(self, answer)"),
+    (stories, stories.Facts, "twin", "(self)"),
+    (stories, stories.Facts, "fate", "(self, cell, moment)"),
+    (stories, stories.Facts, "reasons", "(self, cell, moment)"),
+    (stories, stories.Facts, "window", "(self, cell)"),
+    (fixes, fixes.Fix, "places_of", "(self, program)"),
+    (fixes, fixes.Fix, "changed", "(self, statement)"),
+    (fixes, fixes.Fix, "applied", "(self, program, places)"),
+    (fixes, fixes.Fix, "fewest", "(self, program)"),
+    (fixes, fixes.Keeps, "places_of", "(self, program)"),
+    (fixes, fixes.Keeps, "changed", "(self, statement)"),
+    (fixes, fixes.Strongs, "places_of", "(self, program)"),
+    (fixes, fixes.Strongs, "changed", "(self, statement)"),
 )
 
 
@@ -49,9 +68,9 @@ class Interface(unittest.TestCase):
                 self.assertEqual(str(inspect.signature(function)), arguments)
 
     def test_each_method_stands_in_its_class(self):
-        for owner, name, arguments in METHODS:
-            with self.subTest(name):
-                self.assertEqual(owner.__module__, stories.__name__)
+        for module, owner, name, arguments in METHODS:
+            with self.subTest(name, owner=owner):
+                self.assertEqual(owner.__module__, module.__name__)
                 self.assertEqual(str(inspect.signature(vars(owner)[name])), arguments)
 
     def test_attributes_are_set_from_the_beginning(self):

@@ -246,7 +246,7 @@ class Language(unittest.TestCase):
     def test_generators_and_views_are_iterated_at_once(self):
         made = {node.name for _, tree in trees() for node in ast.walk(tree) if isinstance(node, ast.FunctionDef)
                 if any(isinstance(inner, (ast.Yield, ast.YieldFrom)) for inner in ast.walk(node))}
-        self.assertEqual(made, {"each_statement", "ways", "each_inputs"})
+        self.assertEqual(made, {"each_statement", "ways", "each_inputs", "each_search", "each_noticed"})
         for name, tree in trees():
             at_once = list(iterated(tree))
             for node in ast.walk(tree):
