@@ -61,10 +61,17 @@ class Cells:
         """The cells in the strong fields of the cell."""
         return [held for held, strong in self.fields[cell].values() if strong]
 
+    def standing(self):
+        """A dict whose keys are the cells for which a name stands, and those that are kept."""
+        found = dict(self.kept)
+        for cell in self.stands.values():
+            if cell is not None:
+                found[cell] = True
+        return found
+
     def reached(self):
         """A dict whose keys are the reached cells."""
-        left = [cell for cell in self.stands.values() if cell is not None]
-        left.extend(list(self.kept))
+        left = list(self.standing())
         found = {}
         while left:
             cell = left.pop()

@@ -71,6 +71,7 @@ class SearchMachine(LedMachine):
         Some run of the way clears the cell at the time first, some at last, some at each time
         between them, and none at other times.
         """
+        # What was reached behind the last question counts, too.
         self.windows.settle(self.time)
         return [(cell, self.windows.last_there(cell) + 1, last) for last, cell in self.late_plan()]
 

@@ -77,35 +77,41 @@ class Windows:
 
     def _force_there(self, cell, time, why):
         queue = []
-        self._queue_there(queue, cell, (time, why, None))
+        if self._learn_there(cell, (time, why, None)):
+            heappush(queue, (-time, cell))
         while queue:
             minus, holder = heappop(queue)
             if self.last_there(holder) == -minus:
                 for span in self.outline.holding[holder]:
                     last = span.last_by(-minus)
-                    if last is not None:
-                        self._queue_there(queue, span.held, (last, None, holder))
+                    if last is not None and self._learn_there(span.held, (last, None, holder)):
+                        heappush(queue, (-last, span.held))
 
-    def _queue_there(self, queue, cell, known):
-        if known[0] > self.last_there(cell):
-            self.there[cell] = known
-            heappush(queue, (-known[0], cell))
+    def _learn_there(self, cell, known):
+        """Notes that the cell must be there up to the known time, unless this is known; tells whether it was not."""
+        if known[0] <= self.last_there(cell):
+            return False
+        self.there[cell] = known
+        return True
 
     def _force_gone(self, cell, time, why):
         queue = []
-        self._queue_gone(queue, cell, (time, why, None))
+        if self._learn_gone(cell, (time, why, None)):
+            heappush(queue, (time, cell))
         while queue:
             first, held = heappop(queue)
             if self.gone[held][0] == first:
                 for span in self.outline.held_by[held]:
                     since = span.first_from(first)
-                    if since is not None:
-                        self._queue_gone(queue, span.holder, (since, None, held))
+                    if since is not None and self._learn_gone(span.holder, (since, None, held)):
+                        heappush(queue, (since, span.holder))
 
-    def _queue_gone(self, queue, cell, known):
-        if cell not in self.gone or known[0] < self.gone[cell][0]:
-            self.gone[cell] = known
-            heappush(queue, (known[0], cell))
+    def _learn_gone(self, cell, known):
+        """Notes that the cell must be gone from the known time on, unless this is known; tells whether it was not."""
+        if cell in self.gone and self.gone[cell][0] <= known[0]:
+            return False
+        self.gone[cell] = known
+        return True
 
     def _chain(self, cell, time, state):
         """Rows (cell, time, first known time, why): each one follows from the one behind it."""

@@ -2,14 +2,19 @@
 
 import unittest
 
+from maybegone.benches import Bench, SureBench
+from maybegone.consoles import Console
+from maybegone.errors import BadProgram, BadText, Rejected
 from maybegone.fixes import Fix, Keeps, Strongs, keeps, pauses
 from maybegone.leads import led_run
 from maybegone.papers import paper_holds, paper_of, table_holds, table_of
 from maybegone.passes import crowded, fewest_passes, quiet_moments, run_passes
 from maybegone.programs import each_statement, make_places, program_error, weak_places, weight, wishes_of
 from maybegone.rooms import room
+from maybegone.rules import AtOnce, Counting, Places, Rule, parted_by, plan_by, run_by
 from maybegone.runs import run, there_at
 from maybegone.stories import Facts, cells_at, comers, reached_at, steps_hold
+from maybegone.texts import parse_program, program_text
 from maybegone.verdicts import alike, noticed
 from maybegone.ways import each_inputs, early_plan, way_of, ways
 
@@ -162,6 +167,86 @@ class Examples(unittest.TestCase):
         self.assertEqual(
             [crowded(program, (), (), 2), crowded(program, (), (3,), 2), fewest_passes(program, (), 2), fewest_passes(program, (), 1), fewest_passes(program, (), 3)],
             [3, None, ('passes', (3,)), ('crowded', 2), ('passes', ())])
+
+    def test_rules(self):
+        view = (7, 3, ((0, True, True, ()), (1, False, False, (1,)), (2, False, False, ()), (3, False, False, (2,)), (4, False, True, (0,))))
+        self.assertEqual(
+            [AtOnce()(view), Counting()(view), (AtOnce() - Counting())(view), (Counting() & Places(2))(view), (Counting() | Places(3))(view)],
+            [(1, 2, 3), (2, 3), (1,), (), (1, 2, 3)])
+
+    def test_run_by(self):
+        program = (0, (("make", "x"), ("make", "y"), ("hold", "y", "f", "y"), ("weak", "x", "f", "y"), ("drop", "y"), ("ask", ("full", "x", "f"))))
+        self.assertEqual(
+            [run_by(program, (), AtOnce())[0], run_by(program, (), Counting())[0], plan_by(program, (), AtOnce())],
+            [(('no',),), (('yes',),), ((5, 1),)])
+
+    def test_parted_by(self):
+        program = (1, (("make", "x"), ("make", "y"), ("if", ("given", 0), (("hold", "y", "f", "y"),), ()), ("weak", "x", "f", "y"), ("drop", "y"), ("ask", ("full", "x", "f"))))
+        self.assertEqual(
+            [parted_by(program, AtOnce(), Counting()), parted_by(program, AtOnce(), AtOnce()), parted_by(program, Counting(), Rule())],
+            [(1,), None, (0,)])
+
+    def test_program_text(self):
+        self.assertEqual(
+            program_text((1, (("make", "x"), ("if", ("not", ("full", "x", "f")), (("weak", "x", "f", "x"),), (("take", "y", "x", "f"),)), ("repeat", 2, ()), ("say", "ok")))),
+            'givens 1\nmake x\nif not full x.f\n  x.f ~ x\nelse\n  y = x.f\nrepeat 2\n  pass\nsay ok')
+
+    def test_parse_program(self):
+        self.assertEqual(
+            parse_program('givens 0\nrepeat 3\n  make x\nx.f = x'),
+            (0, (('repeat', 3, (('make', 'x'),)), ('hold', 'x', 'f', 'x'))))
+        for text, line in (('givens 0\nmake x\nx.f ~x', 2), ('givens 0\nif set x\ndrop x', 2), ('givens 0\nif x is x\n  pass\nelse', 4)):
+            with self.assertRaises(BadText) as caught:
+                parse_program(text)
+            self.assertEqual(caught.exception.line, line)
+        with self.assertRaises(BadProgram) as caught:
+            parse_program('givens 0\nask given 0')
+        self.assertEqual(caught.exception.error, (0, 'statement'))
+
+    def test_bench_edits(self):
+        bench = Bench((0, (("make", "r"), ("make", "x"), ("weak", "r", "f", "x"), ("drop", "x"), ("ask", ("full", "r", "f")))))
+        self.assertEqual(
+            [bench.verdict() is None, bench.pause(4), bench.verdict() is None, bench.keep(1), bench.pauses, bench.hold(3), bench.program[1][2:4]],
+            [False, 1, True, 2, (5,), 3, (('keep', 'x'), ('hold', 'r', 'f', 'x'))])
+
+    def test_bench_signs(self):
+        bench = Bench((0, (("repeat", 2, (("make", "x"),)), ("drop", "x"))), (1,))
+        self.assertEqual(
+            [bench[0], bench.drop(0), bench[0], bench.pauses, len(bench)],
+            [('repeat', 2, (('make', 'x'),)), 1, ('drop', 'x'), (), 1])
+
+    def test_bench_undo(self):
+        bench = Bench((0, (("make", "x"),)))
+        self.assertEqual(
+            [bench.add(("drop", "x")), bench.pause(0), bench.undo(), bench.undo(), bench.redo(), bench.program, bench.redo(), bench.pauses],
+            [1, 2, 1, 0, 1, (0, (('make', 'x'), ('drop', 'x'))), 2, (0,)])
+
+    def test_bench_attempt(self):
+        bench = Bench((0, (("make", "x"),)))
+        self.assertEqual(
+            [bench.attempt([("add", ("make", "y")), ("pause", 1), ("drop", 0)], watch=lambda held: held.pauses == (1,)), len(bench), bench.pauses, bench.undo(), bench.program],
+            [2, 1, (1,), 0, (0, (('make', 'x'),))])
+        with self.assertRaises(Rejected) as caught:
+            Bench((0, ())).attempt([("add", ("make", "y")), ("pause", 1)])
+        self.assertEqual(caught.exception.index, 1)
+
+    def test_bench_queries(self):
+        bench = Bench((0, (("make", "r"), ("make", "x"), ("weak", "r", "f", "x"), ("drop", "x"), ("ask", ("full", "r", "f")))))
+        self.assertEqual(
+            [bench.pause_fewest(), bench.state()[1], bench.state(version=0)[1], len(list(bench.each_way(()))), len(list(bench.each_way((), version=0))), bench.edits()],
+            [1, (4,), (), 1, 2, (('pause_fewest',),)])
+
+    def test_sure_bench(self):
+        bench = SureBench((0, (("make", "r"), ("make", "x"), ("weak", "r", "f", "x"), ("drop", "x"), ("ask", ("full", "r", "f")))), (4,))
+        self.assertEqual(
+            [bench.attempt([("resume", 4), ("hold", 2)]), bench.pauses, str(bench), bench.undo(), bench.pauses],
+            [2, (), '5 statements, 0 pauses, 1 edits', 0, (4,)])
+
+    def test_console(self):
+        console = Console(Bench((0, (("make", "r"), ("make", "x"), ("weak", "r", "f", "x"), ("drop", "x"), ("ask", ("full", "r", "f"))))))
+        self.assertEqual(
+            [console.execute(line) for line in ('verdict', 'run / 4:1', 'pause 4', 'pause 4', 'verdict', 'add wish x no', 'run /', 'text', 'pause  0')],
+            ['noticed', 'no', 'ok 1', 'error PauseThere', 'sure', 'ok 2', 'yes, stop name 5', 'givens 0 | make r | make x | r.f ~ x | drop x | ask full r.f | wish x no', 'unknown command'])
 
 
 if __name__ == "__main__":

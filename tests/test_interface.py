@@ -3,7 +3,7 @@
 import inspect
 import unittest
 
-from maybegone import fixes, leads, papers, passes, programs, rooms, runs, stories, verdicts, ways
+from maybegone import benches, consoles, fixes, leads, papers, passes, programs, rooms, rules, runs, stories, texts, verdicts, ways
 
 FUNCTIONS = (
     (programs, "program_error", "(value)"),
@@ -37,6 +37,11 @@ FUNCTIONS = (
     (passes, "quiet_moments", "(program, inputs)"),
     (passes, "crowded", "(program, inputs, moments, limit)"),
     (passes, "fewest_passes", "(program, inputs, limit)"),
+    (rules, "run_by", "(program, inputs, rule, *, paused=())"),
+    (rules, "plan_by", "(program, inputs, rule, *, paused=())"),
+    (rules, "parted_by", "(program, one, other)"),
+    (texts, "program_text", "(program)"),
+    (texts, "parse_program", "(value)"),
 )
 METHODS = (
     (stories, stories.Facts, "__init__", "(self, story, answers=())"),
@@ -54,6 +59,44 @@ METHODS = (
     (fixes, fixes.Keeps, "changed", "(self, statement)"),
     (fixes, fixes.Strongs, "places_of", "(self, program)"),
     (fixes, fixes.Strongs, "changed", "(self, statement)"),
+    (rules, rules.Rule, "__call__", "(self, view)"),
+    (rules, rules.Rule, "__and__", "(self, other)"),
+    (rules, rules.Rule, "__or__", "(self, other)"),
+    (rules, rules.Rule, "__sub__", "(self, other)"),
+    (rules, rules.Rule, "names", "(self, view)"),
+    (rules, rules.AtOnce, "names", "(self, view)"),
+    (rules, rules.Counting, "names", "(self, view)"),
+    (rules, rules.Places, "names", "(self, view)"),
+    (rules, rules.Places, "__init__", "(self, *places)"),
+    (rules, rules.Above, "names", "(self, view)"),
+    (rules, rules.Above, "__init__", "(self, most)"),
+    (benches, benches.Bench, "__init__", "(self, program, pauses=())"),
+    (benches, benches.Bench, "__getitem__", "(self, at)"),
+    (benches, benches.Bench, "__setitem__", "(self, at, worth)"),
+    (benches, benches.Bench, "__iadd__", "(self, other)"),
+    (benches, benches.Bench, "__isub__", "(self, other)"),
+    (benches, benches.Bench, "__ior__", "(self, other)"),
+    (benches, benches.Bench, "__len__", "(self)"),
+    (benches, benches.Bench, "__str__", "(self)"),
+    (benches, benches.Bench, "__eq__", "(self, other)"),
+    (benches, benches.Bench, "add", "(self, statement)"),
+    (benches, benches.Bench, "drop", "(self, place)"),
+    (benches, benches.Bench, "change", "(self, place, statement)"),
+    (benches, benches.Bench, "keep", "(self, place)"),
+    (benches, benches.Bench, "hold", "(self, place)"),
+    (benches, benches.Bench, "pause", "(self, place)"),
+    (benches, benches.Bench, "resume", "(self, place)"),
+    (benches, benches.Bench, "pause_fewest", "(self)"),
+    (benches, benches.Bench, "undo", "(self)"),
+    (benches, benches.Bench, "redo", "(self)"),
+    (benches, benches.Bench, "attempt", "(self, edits, *, watch=None)"),
+    (benches, benches.Bench, "verdict", "(self)"),
+    (benches, benches.Bench, "outcome", "(self, inputs, plan)"),
+    (benches, benches.Bench, "state", "(self, *, version=None)"),
+    (benches, benches.Bench, "each_way", "(self, inputs, *, version=None)"),
+    (benches, benches.Bench, "edits", "(self)"),
+    (consoles, consoles.Console, "__init__", "(self, bench)"),
+    (consoles, consoles.Console, "execute", "(self, line)"),
 )
 
 
@@ -76,8 +119,13 @@ class Interface(unittest.TestCase):
     def test_attributes_are_set_from_the_beginning(self):
         self.assertEqual(sorted(name for name in vars(stories.Facts(())) if not name.startswith("_")), ["story", "told"])
 
+    def test_sure_bench(self):
+        self.assertTrue(issubclass(benches.SureBench, benches.Bench))
+        self.assertEqual(benches.SureBench.__module__, benches.__name__)
+        self.assertEqual(benches.Bench.MOST_EDITS, 60)
+
     def test_generators(self):
-        for made in (ways.ways((0, ()), ()), ways.each_inputs((0, ()))):
+        for made in (ways.ways((0, ()), ()), ways.each_inputs((0, ())), benches.Bench((0, ())).each_way(())):
             self.assertIs(iter(made), made)
 
     def test_paused_is_passed_by_keyword(self):
@@ -85,6 +133,8 @@ class Interface(unittest.TestCase):
             self.assertRaises(TypeError, function, (0, ()), (), (), ())
         self.assertRaises(TypeError, ways.ways, (0, ()), (), ())
         self.assertRaises(TypeError, verdicts.noticed, (0, ()), ())
+        for function in (rules.run_by, rules.plan_by):
+            self.assertRaises(TypeError, function, (0, ()), (), rules.Rule(), ())
 
 
 if __name__ == "__main__":

@@ -5,6 +5,7 @@ import builtins
 import os
 import re
 import unittest
+import warnings
 
 PACKAGE = os.path.join(os.path.dirname(os.path.dirname(os.path.abspath(__file__))), "maybegone")
 BUILTINS = (
@@ -43,6 +44,12 @@ NO_ATTRIBUTES = (
 ITERATING = "list tuple dict sorted sum min max any all enumerate zip".split()
 VIEWS = ("range", "zip", "enumerate", "reversed", "items", "keys", "values")
 STATEMENTS = (ast.FunctionDef, ast.ClassDef, ast.ImportFrom, ast.Assign)
+# The methods with double underscores that the package needs, with their parameters.
+DOUBLE = {
+    "__call__": ["self", "view"], "__len__": ["self"], "__str__": ["self"], "__iter__": ["self"], "__eq__": ["self", "other"], "__and__": ["self", "other"],
+    "__or__": ["self", "other"], "__sub__": ["self", "other"], "__iadd__": ["self", "other"], "__isub__": ["self", "other"], "__ior__": ["self", "other"],
+    "__getitem__": ["self", "at"], "__setitem__": ["self", "at", "worth"],
+}
 FORBIDDEN = (
     ast.Global, ast.AsyncFunctionDef, ast.AsyncFor, ast.AsyncWith, ast.Await, ast.Div, ast.MatMult, ast.Import,
 )
@@ -99,6 +106,20 @@ def iterated(tree):
             yield from node.args
         elif isinstance(node, ast.Compare):
             yield from node.comparators
+
+
+def classes(tree):
+    return [node for node in tree.body if isinstance(node, ast.ClassDef)]
+
+
+def class_values(tree):
+    """The assignments of class values."""
+    return [node for owner in classes(tree) for node in owner.body if isinstance(node, ast.Assign)]
+
+
+def is_simple(node):
+    """Whether the value may be assigned in a finally; no sums are needed there."""
+    return isinstance(node, (ast.Name, ast.Constant)) or isinstance(node, ast.Attribute) and is_simple(node.value)
 
 
 def methods(tree):
@@ -238,6 +259,9 @@ class Language(unittest.TestCase):
         self.assertEqual(stored & set(NO_ATTRIBUTES), set())
         # No name is a method here and an attribute there, though some such cases may stand.
         self.assertEqual(stored & own, set())
+        values = {node.targets[0].id for _, tree in trees() for node in class_values(tree)}
+        self.assertEqual(values & (stored | own), set())
+        stored |= values
         for name, tree in trees():
             for node in ast.walk(tree):
                 if isinstance(node, ast.Attribute) and isinstance(node.ctx, ast.Load):
@@ -246,7 +270,7 @@ class Language(unittest.TestCase):
     def test_generators_and_views_are_iterated_at_once(self):
         made = {node.name for _, tree in trees() for node in ast.walk(tree) if isinstance(node, ast.FunctionDef)
                 if any(isinstance(inner, (ast.Yield, ast.YieldFrom)) for inner in ast.walk(node))}
-        self.assertEqual(made, {"each_statement", "ways", "each_inputs", "each_search", "each_noticed"})
+        self.assertEqual(made, {"each_statement", "ways", "each_inputs", "each_search", "each_noticed", "each_way"})
         for name, tree in trees():
             at_once = list(iterated(tree))
             for node in ast.walk(tree):
@@ -293,6 +317,83 @@ class Language(unittest.TestCase):
                     found.append(module)
                     left.extend(further[module])
             self.assertNotIn(start, found)
+
+    def test_bodies_of_classes(self):
+        for name, tree in trees():
+            for owner in classes(tree):
+                for at, node in enumerate(owner.body):
+                    shown = (name, owner.name, node.lineno)
+                    if isinstance(node, ast.Assign):
+                        self.assertIsInstance(node.value, ast.Constant, shown)
+                        self.assertEqual(len(node.targets), 1, shown)
+                    else:
+                        self.assertTrue(isinstance(node, ast.FunctionDef) or at == 0 and isinstance(node, ast.Expr), shown)
+
+    def test_double_underscores(self):
+        for name, tree in trees():
+            for node in methods(tree):
+                if node.name.startswith("__") and node.name != "__init__":
+                    self.assertEqual([arg.arg for arg in node.args.args], DOUBLE[node.name], (name, node.name))
+                    self.assertFalse(node.args.kwonlyargs or node.args.vararg or node.args.defaults or node.decorator_list)
+
+    def test_what_a_class_with_items_asks_for(self):
+        for name, tree in trees():
+            for owner in classes(tree):
+                own = {node.name: node for node in owner.body if isinstance(node, ast.FunctionDef)}
+                if "__getitem__" in own:
+                    self.assertEqual([type(node) for node in own["__iter__"].body], [ast.Raise])
+                self.assertNotIn("keys", own)
+        for name, text in sources():
+            for word in ("(type)", "Meta", "metaclass="):
+                self.assertNotIn(word, text, name)
+            self.assertNotIn("reversed(", text, name)
+
+    def test_no_signs_that_change_what_stands_left_of_them(self):
+        # There is a class with such signs of its own.
+        for name, tree in trees():
+            self.assertFalse([node.lineno for node in ast.walk(tree) if isinstance(node, ast.AugAssign)], name)
+
+    def test_operators_change_nothing(self):
+        for name, tree in trees():
+            for node in methods(tree):
+                if node.name in ("__and__", "__or__", "__sub__", "__getitem__", "__eq__", "__str__", "__len__"):
+                    for inner in ast.walk(node):
+                        self.assertNotIsInstance(inner, (ast.Assign, ast.Delete, ast.For, ast.While), (name, node.name))
+
+    def test_finally(self):
+        for name, tree in trees():
+            for node in ast.walk(tree):
+                for row in node.finalbody if isinstance(node, ast.Try) else ():
+                    self.assertIsInstance(row, ast.Assign, (name, row.lineno))
+                    self.assertTrue(is_simple(row.value) and all(is_simple(target) for target in row.targets), (name, row.lineno))
+
+    def test_errors_that_are_caught_are_own_ones(self):
+        own = {owner.name for _, tree in trees() for owner in classes(tree)}
+        for name, tree in trees():
+            for node in ast.walk(tree):
+                if isinstance(node, ast.ExceptHandler):
+                    caught = node.type.elts if isinstance(node.type, ast.Tuple) else [node.type]
+                    self.assertTrue(all(isinstance(one, ast.Name) and one.id in own for one in caught), (name, node.lineno))
+                if isinstance(node, ast.Raise) and node.exc is not None:
+                    self.assertIn(called(node.exc), own | {"TypeError"}, (name, node.lineno))
+
+    def test_lambdas_and_asserts_are_not_needed(self):
+        for name, tree in trees():
+            self.assertFalse([node.lineno for node in ast.walk(tree) if isinstance(node, (ast.Lambda, ast.Assert, ast.NamedExpr, ast.Match, ast.With, ast.Nonlocal))], name)
+
+    def test_no_line_with_a_warning(self):
+        for name, text in sources():
+            with warnings.catch_warnings():
+                warnings.simplefilter("error")
+                compile(text, name, "exec")
+
+    def test_no_sets_but_in_sorted(self):
+        for name, tree in trees():
+            at_once = [arg for node in ast.walk(tree) if called(node) in ("sorted", "len") for arg in node.args]
+            for node in ast.walk(tree):
+                self.assertNotIsInstance(node, (ast.Set, ast.SetComp), name)
+                if called(node) == "set":
+                    self.assertIn(node, at_once, (name, node.lineno))
 
     def test_sets_are_not_iterated(self):
         for name, tree in trees():
